@@ -1,0 +1,1 @@
+"""Trailkeep: files in a trail that is swept, and cut anywhere."""
