@@ -94,7 +94,7 @@ class TestCuts(unittest.TestCase):
         before = disk_state(disk)
         wrong = [(33,), (-1,), (0, 33), (32, -1), (0,) * 2999 + (33,), (True,), (0, False), [0], [], (None,), ("0",),
                  ((0,),), 0, 32, "", "00", None, {}, {0: 1}, (0, [1]), (10 ** 40 - 1,)]
-        wrong.extend([thing for thing in STRANGE if thing not in ((), (0,) * 3000)])
+        wrong.extend([thing for thing in STRANGE if thing not in ((), (0,) * 3000, (9,) * 28)])
         wrong.extend(bent((0, 1, 32)))
         for thing in wrong:
             error = caught(disk.cut, thing)

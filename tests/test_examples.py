@@ -25,6 +25,56 @@ DISK = """
 raises PowerCut()
 """
 
+GROUPS = """
+>>> from trailkeep.disk import Disk, place_at
+>>> from trailkeep.groups import data_block, judge_group
+>>> disk = Disk(6, 4)
+>>> [disk.write(place_at(disk, 0, 0), (7, 1, 5, 1, 1, 1, 3, 4) + (0,) * 23 + (7,)), judge_group(disk, 0, 0), disk.write(place_at(disk, 0, 1), data_block(7, 3, (9,) * 28)), judge_group(disk, 0, 0), judge_group(disk, 0, 1), judge_group(disk, 0, 2)]
+[None, ('block', 0), None, ('group', 7, 5, 1, (3,), (4,)), ('kind',), ('torn',)]
+"""
+
+ROOTS = """
+>>> from trailkeep.disk import Disk
+>>> from trailkeep.roots import judge_root, made, newer_root
+>>> disk = made(6, 4)
+>>> [judge_root(disk, 0), judge_root(disk, 1), newer_root(disk), disk.read(0)[:8], newer_root(Disk(6, 4))]
+[('root', 1, 0, 0, 1, 0, (None, None, None, None, None, None)), ('broken', 0), 0, (1, 3, 0, 0, 0, 1, 0, 0), None]
+"""
+
+MEANING = """
+>>> from trailkeep.disk import place_at
+>>> from trailkeep.groups import data_block
+>>> from trailkeep.meaning import map_of, meaning, road, top_number
+>>> from trailkeep.roots import made
+>>> disk = made(6, 4)
+>>> [disk.write(place_at(disk, 0, 0), (2, 1, 0, 1, 1, 0, 3) + (0,) * 24 + (2,)), disk.write(place_at(disk, 0, 1), data_block(2, 3, (9,) * 28)), road(disk), map_of(disk), meaning(disk) == ((3, (9,) * 28),), top_number(disk)]
+[None, None, ((0, 0, 2),), ((3, 3),), True, 2]
+>>> [disk.cut((32, 31)), road(disk), map_of(disk), meaning(disk), top_number(disk)]
+[None, (), (), (), 2]
+"""
+
+TRAIL = """
+>>> from trailkeep.roots import made
+>>> from trailkeep.trail import Trail
+>>> trail = Trail(made(6, 4))
+>>> CONTENT = (5,) * 28
+>>> [trail.put(((0, CONTENT), (2, CONTENT)), ()), trail.put(((1, CONTENT),), (2,)), trail.living(), trail.head(), trail.beyond(), trail.last(), trail.next_number(), trail.uses(), trail.states()]
+[None, None, (0, 1), (1, 2), 2, 3, 4, (1, 1, 0, 0, 0, 0), ('closed', 'current', 'beyond', 'free', 'free', 'free')]
+>>> [trail.place_of(1), trail.read(1) == CONTENT, trail.free_keys(2), trail.root(), trail.next_number(), Trail(trail.disk()).head()]
+[7, True, (2, 3), None, 5, (1, 2)]
+"""
+
+CLEANER = """
+>>> from trailkeep.roots import made
+>>> from trailkeep.trail import Trail
+>>> trail = Trail(made(6, 4))
+>>> CONTENT = (5,) * 28
+>>> [trail.put(((0, CONTENT), (2, CONTENT)), ()), trail.put(((1, CONTENT),), (2,)), trail.chosen('emptiest', 2), trail.clean((0,)), trail.uses(), trail.states(), trail.living()]
+[None, None, (0,), True, (0, 2, 0, 0, 0, 0), ('closed', 'current', 'beyond', 'free', 'free', 'free'), (0, 1)]
+>>> [trail.root(), trail.states(), trail.head()]
+[None, ('free', 'current', 'beyond', 'free', 'free', 'free'), (1, 4)]
+"""
+
 
 class TestExamples(unittest.TestCase):
     def test_plain(self):
@@ -32,6 +82,21 @@ class TestExamples(unittest.TestCase):
 
     def test_disk(self):
         self.assertEqual(differences(DISK), [])
+
+    def test_groups(self):
+        self.assertEqual(differences(GROUPS), [])
+
+    def test_roots(self):
+        self.assertEqual(differences(ROOTS), [])
+
+    def test_meaning(self):
+        self.assertEqual(differences(MEANING), [])
+
+    def test_trail(self):
+        self.assertEqual(differences(TRAIL), [])
+
+    def test_cleaner(self):
+        self.assertEqual(differences(CLEANER), [])
 
     def test_a_wrong_example_is_found(self):
         self.assertEqual(differences(">>> k = 1\n>>> k\n2"), [(">>> k", "2", "1")])

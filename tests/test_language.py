@@ -125,7 +125,11 @@ class TestInterface(unittest.TestCase):
         homes = dict(trees())
         for name, functions, classes in (
                 ("plain.py", "is_deed from_picture is_picture", {"Plain": "do picture needs handles fallen"}),
-                ("disk.py", "place_at", {"Disk": "sizes many read write force waiting standing cut fuse copied"})):
+                ("disk.py", "place_at", {"Disk": "sizes many read write force waiting standing cut fuse copied"}),
+                ("groups.py", "data_block judge_group", {}), ("roots.py", "judge_root newer_root made", {}),
+                ("meaning.py", "meaning road map_of top_number", {}),
+                ("trail.py", "", {"Trail": "living read place_of free_keys put forget force root head beyond last "
+                                           "next_number uses states disk clean chosen"})):
             found = {node.name: node for node in homes[name].body if isinstance(node, (ast.FunctionDef, ast.ClassDef))}
             for word in functions.split():
                 self.assertIsInstance(found[word], ast.FunctionDef)

@@ -103,6 +103,12 @@ class Disk:
         self._newest = {}
 
 
+def segment_of(disk, place):
+    """The segment in which the place is."""
+    _, blocks, _, area = disk.sizes()
+    return (place - 2 * area) // blocks
+
+
 def place_at(disk, segment, offset):
     """The place of the block at the offset in the segment."""
     if not isinstance(disk, Disk):

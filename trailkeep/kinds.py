@@ -20,6 +20,11 @@ def are_within(thing, least, most):
     return isinstance(thing, tuple) and all([is_within(part, least, most) for part in thing])
 
 
+def are_ascending(things):
+    """Whether each of the things is greater than the one before it."""
+    return all([one < two for one, two in zip(things, things[1:])])
+
+
 def is_word(thing):
     return is_within(thing, 0, MOST_WORD)
 
