@@ -1,14 +1,14 @@
 """Groups: each is a summary of what it puts and drops, and a data block for each key that it puts."""
 
-from trailkeep.disk import BLOCK_WORDS, CONTENT_WORDS, MOST_BLOCKS, place_at
+from trailkeep.disk import BLOCK_WORDS, CONTENT_WORDS, place_at
 from trailkeep.errors import BadContent, BadKey, BadNumber
-from trailkeep.kinds import MOST_SEGMENTS, MOST_WORD, are_ascending, are_words, is_within
+from trailkeep.kinds import MOST_WORD, are_ascending, are_words, is_within
 
 # The second words of blocks, which tell what they are.
 SUMMARY = 1
 DATA = 2
-# The greatest key of the largest disk.
-MOST_KEY = (MOST_SEGMENTS - 4) * (MOST_BLOCKS - 1) - 1
+# The greatest key of the largest disk, which has 40 segments of 24 blocks.
+MOST_KEY = 827
 # The most keys that one group puts and drops together.
 MOST_CHANGES = 24
 # The words of a summary that stand before its keys.

@@ -12,8 +12,7 @@ ROOT = 3
 def made(segments, blocks):
     """A new disk that has a first root."""
     disk = Disk(segments, blocks)
-    keys = disk.sizes()[2]
-    write_root(disk, 0, 1, (0, 0, 1, 0) + (0,) * keys)
+    write_root(disk, 0, 1, root_words((0, 0), 1, 0, {}, disk.sizes()[2]))
     disk.force()
     return disk
 

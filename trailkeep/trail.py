@@ -67,7 +67,7 @@ class Trail:
             raise BadDrops(drops)
         if any([key in drops for key, _ in puts]):
             raise BadDrops(drops)
-        if not self._fits(puts) and self._is_scarce():
+        if not self._fits(puts):
             self._pack()
         self._write(puts, drops)
 
@@ -171,7 +171,7 @@ class Trail:
         """For each segment the living keys that are in it, in the order of their places."""
         places = self._road.places
         found = [[] for _ in range(self._segments)]
-        for key in sorted(places, key=lambda key: places[key]):
+        for key in sorted(places, key=lambda one: places[one]):
             found[segment_of(self._disk, places[key])].append(key)
         return found
 
@@ -205,7 +205,7 @@ class Trail:
         self._road.take(number, keys, drops)
 
     def _pack(self):
-        """Frees segments until there are enough of them."""
+        """Frees segments until there are enough of them; does nothing if there are."""
         while self._is_scarce():
             self.root()
             if self._is_scarce():
