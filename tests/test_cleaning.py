@@ -4,10 +4,11 @@ import itertools
 import random
 import unittest
 
+from laying import put_root
 from reader import Reading, group_blocks
 from support import blocks_of, caught, content, pairs, trail_state, watched
 from tandem import Tandem, tandem
-from trailkeep.disk import place_at
+from trailkeep.disk import Disk, place_at
 from trailkeep.errors import PowerCut
 from trailkeep.meaning import meaning
 from trailkeep.roots import made
@@ -220,6 +221,19 @@ class TestPolicies(unittest.TestCase):
                     found = trail.chosen(policy, many)
                     self.assertEqual(found, tuple(sorted(order[:many])), (policy, many))
                     self.assertIs(found.__class__, tuple)
+
+    def test_the_greatest_first_word(self):
+        """Not the last words, nor those of the first blocks alone."""
+        for words, order in ((((1, 1), (2, 2), (3, 3)), (0, 1, 2)), (((3, 0), (1, 9), (2, 8)), (1, 2, 0)),
+                             (((5, 5), (5, 9), (4, 9)), (2, 0, 1)), (((9, 9), (0, 0), (10, 10)), (1, 0, 2))):
+            for offset in range(4):
+                disk = Disk(7, 4)
+                start = place_at(disk, 0, 0)
+                put_root(disk, 0, 1, (3, 0), 4, 0, k0=start, k1=start + 4, k2=start + 8)
+                for segment, (first, last) in enumerate(words):
+                    disk.write(place_at(disk, segment, offset), (first,) + (7,) * 30 + (last,))
+                for many in range(1, 4):
+                    self.assertEqual(Trail(disk).chosen("oldest", many), tuple(sorted(order[:many])))
 
     def test_no_closed_ones(self):
         for policy in POLICIES:
