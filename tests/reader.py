@@ -138,6 +138,11 @@ class Trailing:
         # What was read last, as long as nothing was written since then.
         self.known = None
 
+    def copied(self):
+        other = Trailing(self.shape.segments, self.shape.blocks, self.blocks)
+        other.forgotten = set(self.forgotten)
+        return other
+
     def told(self):
         """(living, head, beyond, last, next number, uses, states, places)."""
         now = self.now()

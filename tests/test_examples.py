@@ -75,6 +75,61 @@ CLEANER = """
 [None, ('free', 'current', 'beyond', 'free', 'free', 'free'), (1, 4)]
 """
 
+INODES = """
+>>> from trailkeep.inodes import file_blocks, file_words, inode_content, inode_told, is_inode
+>>> NOUGHT = (0,) * 28
+>>> [inode_content(1, 30, 2, (7, 4))[:6], inode_told((2, 1, 1, 9) + (0,) * 24), is_inode(NOUGHT), is_inode((1, 1, 1, 5, 6) + (0,) * 23)]
+[(1, 30, 2, 7, 4, 0), (2, 1, 1, (9,)), False, False]
+>>> [len(file_blocks((5,) * 30)), file_blocks((5,) * 30)[1][:3], file_words(30, file_blocks((5,) * 30)) == (5,) * 30, file_blocks(())]
+[2, (5, 5, 0), True, ()]
+"""
+
+FOLDERS = """
+>>> from trailkeep.folders import folder_blocks, folder_entries, is_path
+>>> [folder_blocks((("ab", 3), ("c", 1)))[0][:20], folder_entries(2, folder_blocks((("ab", 3), ("c", 1)))), is_path(("a", "bc")), is_path(("", "a"))]
+[(1, 2, 0, 0, 0, 0, 0, 0, 3, 3, 0, 0, 0, 0, 0, 0, 0, 1, 0, 0), (('ab', 3), ('c', 1)), True, False]
+"""
+
+SYSTEM = """
+>>> from trailkeep.system import System, formatted
+>>> disk = formatted(6, 12)
+>>> keep = System(disk)
+>>> [keep.room(), keep.do(("make", ("a",))), keep.do(("force",)), keep.do(("write", ("a",), 0, (1, 2, 3))), keep.standing(), keep.done(), keep.needs(), keep.living()]
+[22, ('done', None), ('done', None), ('done', 3), 2, 3, 4, (0, 1, 2, 3)]
+>>> [disk.cut(()), System(disk).picture()]
+[None, (('folder', (('a', 1),)), ('file', ()))]
+"""
+
+EXAMINER = """
+>>> from trailkeep.examiner import blocks_of, examine, tree_of
+>>> TREE = (('folder', (('a', 1),)), ('file', (7,)))
+>>> [examine(blocks_of(TREE)), tree_of(blocks_of(TREE)) == TREE, examine(()), examine(blocks_of(TREE)[:3])]
+[('tree', ((0, ('root',)), (1, ('entry', 0, 'a')), (2, ('block', 0, 0)), (3, ('block', 1, 0))), ()), True, ('wrong', 'inode', 0), ('wrong', 'lacking', 3)]
+"""
+
+WRITERS = """
+>>> from trailkeep.plain import Plain
+>>> from trailkeep.system import System, formatted
+>>> from trailkeep.writers import woven
+>>> SCRIPTS = ((("make", ("a",)), ("open", ("a",)), ("hwrite", 0, 0, (5,))), (("open", ("a",)), ("remove", ("a",)), ("hread", 0, 0, 9)))
+>>> woven(Plain(22), SCRIPTS, (0, 1, -1, 1, 0, 1, 0, 1))
+((('done', None), ('refused', 'no path'), ('refused', 'no handle')), (('done', 0), ('done', None), ('done', ())))
+>>> woven(Plain(22), SCRIPTS, (0, 1, 1)) == woven(System(formatted(6, 12)), SCRIPTS, (0, -3, 1, -1, 1))
+True
+"""
+
+IMAGES = r"""
+>>> from trailkeep.disk import Disk
+>>> from trailkeep.images import disk_text, read_disk
+>>> disk = Disk(6, 4)
+>>> [disk.write(7, (5,) + (0,) * 31), disk_text(disk), disk.force(), disk_text(disk)]
+[None, 'disk 6 4', None, 'disk 6 4\n7 5 0 0 0 0 0 0 0 0 0 0 0 0 0 0 0 0 0 0 0 0 0 0 0 0 0 0 0 0 0 0 0']
+>>> [read_disk(disk_text(disk)).read(7)[0], read_disk('disk 6 4').sizes()]
+[5, (6, 4, 6, 1)]
+>>> read_disk('disk 6 4\n3 1')
+raises BadText(at=2)
+"""
+
 
 class TestExamples(unittest.TestCase):
     def test_plain(self):
@@ -97,6 +152,24 @@ class TestExamples(unittest.TestCase):
 
     def test_cleaner(self):
         self.assertEqual(differences(CLEANER), [])
+
+    def test_inodes(self):
+        self.assertEqual(differences(INODES), [])
+
+    def test_folders(self):
+        self.assertEqual(differences(FOLDERS), [])
+
+    def test_system(self):
+        self.assertEqual(differences(SYSTEM), [])
+
+    def test_examiner(self):
+        self.assertEqual(differences(EXAMINER), [])
+
+    def test_writers(self):
+        self.assertEqual(differences(WRITERS), [])
+
+    def test_images(self):
+        self.assertEqual(differences(IMAGES), [])
 
     def test_a_wrong_example_is_found(self):
         self.assertEqual(differences(">>> k = 1\n>>> k\n2"), [(">>> k", "2", "1")])

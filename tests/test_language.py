@@ -102,6 +102,32 @@ class TestLanguage(unittest.TestCase):
             for word in used:
                 self.assertNotIn(word, UNUSED_NAMES, name)
 
+    def test_no_import_and_no_class_gets_another_meaning(self):
+        for name, tree in trees():
+            fixed = {alias.name for node in nodes(tree, ast.ImportFrom) for alias in node.names}
+            fixed |= {node.name for node in nodes(tree, ast.ClassDef)}
+            stored = {node.id for node in nodes(tree, ast.Name) if isinstance(node.ctx, ast.Store)}
+            self.assertEqual((stored | {node.arg for node in nodes(tree, ast.arg)}) & fixed, set(), name)
+            for alias in fixed - {node.name for node in nodes(tree, ast.ClassDef)}:
+                self.assertIn(alias, [node.id for node in nodes(tree, ast.Name)], name)
+
+    def test_no_two_files_import_from_each_other(self):
+        near = {name[:-3]: {node.module[len("trailkeep."):] for node in nodes(tree, ast.ImportFrom)} for name, tree in trees()}
+        for name in near:
+            reached, coming = set(), [name]
+            while coming:
+                for other in near[coming.pop()] - reached:
+                    reached.add(other)
+                    coming.append(other)
+            self.assertNotIn(name, reached)
+
+    def test_methods_and_attributes_of_a_class_differ(self):
+        for name, tree in trees():
+            for node in nodes(tree, ast.ClassDef):
+                methods = {part.name for part in node.body if isinstance(part, ast.FunctionDef)}
+                stored = {part.attr for part in nodes(node, ast.Attribute) if isinstance(part.ctx, ast.Store)}
+                self.assertEqual(methods & stored, set(), (name, node.name))
+
     def test_methods(self):
         own = [node.name for _, tree in trees() for node in nodes(tree, ast.FunctionDef)]
         for name, tree in trees():
@@ -129,7 +155,13 @@ class TestInterface(unittest.TestCase):
                 ("groups.py", "data_block judge_group", {}), ("roots.py", "judge_root newer_root made", {}),
                 ("meaning.py", "meaning road map_of top_number", {}),
                 ("trail.py", "", {"Trail": "living read place_of free_keys put forget force root head beyond last "
-                                           "next_number uses states disk clean chosen"})):
+                                           "next_number uses states disk clean chosen"}),
+                ("inodes.py", "is_inode inode_content inode_told file_blocks file_words", {}),
+                ("folders.py", "folder_blocks folder_entries is_path", {}),
+                ("system.py", "formatted", {"System": "do picture needs handles room living done standing"}),
+                ("examiner.py", "examine examine_holds tree_of blocks_of", {}),
+                ("writers.py", "are_scripts is_weaving woven", {}), ("lives.py", "is_life lived", {}),
+                ("images.py", "disk_text read_disk", {})):
             found = {node.name: node for node in homes[name].body if isinstance(node, (ast.FunctionDef, ast.ClassDef))}
             for word in functions.split():
                 self.assertIsInstance(found[word], ast.FunctionDef)

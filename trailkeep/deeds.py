@@ -9,6 +9,7 @@ from trailkeep.nodes import File, Folder, MOST_ENTRIES, MOST_SIZE, node_at, plac
 
 def act(tree, deed):
     """Does the deed on the tree and returns the answer."""
+    tree.touched = {}
     action = ACTIONS[deed[0]]
     parts = deed[1:]
     return action(tree, *parts)

@@ -17,6 +17,14 @@ def is_block(thing):
     return are_words(thing) and len(thing) == BLOCK_WORDS
 
 
+def is_keep(thing):
+    return are_within(thing, 0, BLOCK_WORDS)
+
+
+def is_fuse(thing):
+    return is_integer(thing) and thing >= 0
+
+
 class Disk:
     """A blank disk with so many segments, and so many blocks in each of them."""
 
@@ -66,7 +74,7 @@ class Disk:
 
     def cut(self, keep):
         """The power fails: each waiting write keeps so many words as the keep says, and the others none."""
-        if not are_within(keep, 0, BLOCK_WORDS):
+        if not is_keep(keep):
             raise BadCut(keep)
         for (place, block), many in zip(self._waiting, keep):
             self._standing[place] = block[:many] + self._standing[place][many:]
@@ -75,7 +83,7 @@ class Disk:
 
     def fuse(self, many):
         """From now on so many calls of write and force are done, and then no more."""
-        if not is_integer(many) or many < 0:
+        if not is_fuse(many):
             raise BadNumber(many)
         self._fuse = many
 

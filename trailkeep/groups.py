@@ -19,6 +19,16 @@ def is_content(thing):
     return are_words(thing) and len(thing) == CONTENT_WORDS
 
 
+def are_contents(thing, many):
+    """Whether the thing is a tuple of so many contents."""
+    return isinstance(thing, tuple) and len(thing) == many and all([is_content(part) for part in thing])
+
+
+def filled(words):
+    """The content that begins with the words, and has zeros behind them."""
+    return words + (0,) * (CONTENT_WORDS - len(words))
+
+
 def content_of(block):
     return block[3:3 + CONTENT_WORDS]
 

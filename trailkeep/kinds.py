@@ -1,5 +1,7 @@
 """The kinds of values that many modules ask for."""
 
+from trailkeep.nodes import MOST_ENTRIES
+
 MOST_WORD = 10 ** 9
 MOST_LETTERS = 8
 MOST_NAMES = 8
@@ -41,3 +43,14 @@ def is_name(thing):
 def is_way(thing):
     """Whether the thing is a path: a tuple of at most 8 names."""
     return isinstance(thing, tuple) and len(thing) <= MOST_NAMES and all([is_name(name) for name in thing])
+
+
+def are_entries(thing):
+    """Whether the thing is a tuple of pairs of a name and an integer, as a folder may have them."""
+    if not isinstance(thing, tuple) or len(thing) > MOST_ENTRIES or not all([_is_entry(pair) for pair in thing]):
+        return False
+    return are_ascending([name for name, _ in thing])
+
+
+def _is_entry(thing):
+    return isinstance(thing, tuple) and len(thing) == 2 and is_name(thing[0]) and is_integer(thing[1])

@@ -2,8 +2,8 @@
 
 from trailkeep.deeds import act
 from trailkeep.errors import BadDeed, BadPicture, BadRoom
-from trailkeep.kinds import MOST_SEGMENTS, are_within, are_words, is_integer, is_name, is_way, is_within, is_word
-from trailkeep.nodes import Folder, MOST_ENTRIES, MOST_SIZE
+from trailkeep.kinds import MOST_SEGMENTS, are_entries, are_within, are_words, is_integer, is_way, is_within, is_word
+from trailkeep.nodes import Folder, MOST_SIZE
 from trailkeep.pictures import picture_of, root_of
 from trailkeep.tree import MOST_HANDLES, Tree
 
@@ -91,19 +91,8 @@ def _is_item(thing):
     if not isinstance(thing, tuple) or len(thing) != 2:
         return False
     if thing[0] == "folder":
-        return _are_entries(thing[1])
+        return are_entries(thing[1])
     return thing[0] == "file" and are_words(thing[1]) and len(thing[1]) <= MOST_SIZE
-
-
-def _are_entries(thing):
-    if not isinstance(thing, tuple) or len(thing) > MOST_ENTRIES or not all([_is_entry(pair) for pair in thing]):
-        return False
-    names = [name for name, _ in thing]
-    return names == sorted(set(names))
-
-
-def _is_entry(thing):
-    return isinstance(thing, tuple) and len(thing) == 2 and is_name(thing[0]) and is_integer(thing[1])
 
 
 def _is_numbered(picture):
@@ -142,7 +131,7 @@ class Plain:
         return self._tree.used
 
     def handles(self):
-        return tuple(sorted(self._tree.held))
+        return self._tree.handles()
 
     def fallen(self):
         return from_picture(self._tree.room, self.picture())

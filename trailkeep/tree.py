@@ -12,7 +12,13 @@ class Tree:
         self.room = room
         self.root = root
         self.held = {}
+        # The nodes whose blocks the last deed may have changed, or that it gave up.
+        self.touched = {}
         self.used = sum([node.needs() for node in nodes_from(root)])
+
+    def has(self, node):
+        """Whether the node is still in the tree."""
+        return node == self.root or node.is_kept()
 
     def has_room(self, more):
         """Whether the tree may need so many more blocks."""
@@ -27,6 +33,7 @@ class Tree:
         self.used += self.entry_cost(folder, node)
         folder.entries[name] = node
         node.links += 1
+        self._touch(folder, node)
 
     def strike(self, folder, name):
         """Removes an entry of the folder, and its node if nothing else keeps it."""
@@ -35,11 +42,17 @@ class Tree:
         del folder.entries[name]
         node.links -= 1
         self._leave(node)
+        self._touch(folder, node)
 
     def rewrite(self, file, words):
         """Gives the file other words."""
         self.used += file.growth(len(words))
         file.words = words
+        self._touch(file)
+
+    def handles(self):
+        """The handles that are in use, ascending."""
+        return tuple(sorted(self.held))
 
     def least_handle(self):
         """The least handle that is not in use, or None."""
@@ -58,7 +71,12 @@ class Tree:
         del self.held[handle]
         file.holders -= 1
         self._leave(file)
+        self._touch(file)
 
     def _leave(self, node):
         if not node.is_kept():
             self.used -= node.needs()
+
+    def _touch(self, *nodes):
+        for node in nodes:
+            self.touched[node] = True
