@@ -2,7 +2,7 @@
 
 import unittest
 
-from keyed import entry_blocks, inode, word_blocks
+from keyed import entry_blocks, inode, leading_to, word_blocks
 from reader import Shape, judged_group
 from support import blocks_of, file_of, names, watched
 from trailkeep.meaning import meaning, road
@@ -58,15 +58,15 @@ class TestNewNodes(Groups):
     def test_the_first_entry(self):
         for word, head in (("make", inode(1, 0, 1, ())), ("folder", inode(2, 0, 1, ()))):
             self.setUp()
-            self.writes((word, ("a",)), {0: inode(2, 1, 1, (2,)), 1: head, 2: entry_blocks([("a", 1)])[0]})
+            self.writes((word, ("a",)), {0: inode(2, 1, 1, (2,)), 1: head, 2: leading_to(("a", 1))})
 
     def test_more_entries(self):
         self.do(("make", ("b",)))
-        self.writes(("make", ("a",)), {0: inode(2, 2, 1, (2,)), 2: entry_blocks([("a", 3), ("b", 1)])[0], 3: inode(1, 0, 1, ())})
+        self.writes(("make", ("a",)), {0: inode(2, 2, 1, (2,)), 2: leading_to(("a", 3), ("b", 1)), 3: inode(1, 0, 1, ())})
         self.do(("folder", ("c",)))
-        self.writes(("folder", ("d",)), {0: inode(2, 4, 1, (2, 6)), 5: inode(2, 0, 1, ()), 6: entry_blocks([("d", 5)])[0]})
+        self.writes(("folder", ("d",)), {0: inode(2, 4, 1, (2, 6)), 5: inode(2, 0, 1, ()), 6: leading_to(("d", 5))})
         # Only the blocks that look otherwise are put.
-        self.writes(("make", ("e",)), {0: inode(2, 5, 1, (2, 6)), 6: entry_blocks([("d", 5), ("e", 7)])[0],
+        self.writes(("make", ("e",)), {0: inode(2, 5, 1, (2, 6)), 6: leading_to(("d", 5), ("e", 7)),
                                        7: inode(1, 0, 1, ())})
 
     def test_an_entry_before_all_others(self):
@@ -78,11 +78,11 @@ class TestNewNodes(Groups):
         """Keys in the middle are free: the new inode gets the least one, and the new block of the folder the next one."""
         self.do(*[("make", (name,)) for name in names(8)], ("remove", ("c",)), ("remove", ("f",)))
         self.assertEqual(self.system.living(), (0, 1, 2, 3, 5, 6, 7, 9, 11))
-        self.writes(("make", ("z",)), {0: inode(2, 7, 1, (2, 6, 8)), 4: inode(1, 0, 1, ()), 8: entry_blocks([("z", 4)])[0]})
+        self.writes(("make", ("z",)), {0: inode(2, 7, 1, (2, 6, 8)), 4: inode(1, 0, 1, ()), 8: leading_to(("z", 4))})
 
     def test_in_another_folder(self):
         self.do(("folder", ("d",)))
-        self.writes(("make", ("d", "a")), {1: inode(2, 1, 1, (4,)), 3: inode(1, 0, 1, ()), 4: entry_blocks([("a", 3)])[0]})
+        self.writes(("make", ("d", "a")), {1: inode(2, 1, 1, (4,)), 3: inode(1, 0, 1, ()), 4: leading_to(("a", 3))})
 
 
 class TestWords(Groups):
@@ -137,13 +137,13 @@ class TestLinks(Groups):
     def test_a_link(self):
         self.do(*file_of(("a",), 3))
         self.writes(("link", ("a",), ("b",)), {0: inode(2, 2, 1, (2,)), 1: inode(1, 3, 2, (3,)),
-                                               2: entry_blocks([("a", 1), ("b", 1)])[0]})
+                                               2: leading_to(("a", 1), ("b", 1))})
         self.do(("folder", ("d",)))
-        self.writes(("link", ("b",), ("d", "c")), {1: inode(1, 3, 3, (3,)), 4: inode(2, 1, 1, (5,)), 5: entry_blocks([("c", 1)])[0]})
-        self.writes(("remove", ("a",)), {0: inode(2, 2, 1, (2,)), 1: inode(1, 3, 2, (3,)), 2: entry_blocks([("b", 1), ("d", 4)])[0]})
+        self.writes(("link", ("b",), ("d", "c")), {1: inode(1, 3, 3, (3,)), 4: inode(2, 1, 1, (5,)), 5: leading_to(("c", 1))})
+        self.writes(("remove", ("a",)), {0: inode(2, 2, 1, (2,)), 1: inode(1, 3, 2, (3,)), 2: leading_to(("b", 1), ("d", 4))})
         self.nothing(("rename", ("b",), ("d", "c")), ("rename", ("b",), ("b",)), ("rename", ("d",), ("d",)))
         self.writes(("remove", ("d", "c")), {1: inode(1, 3, 1, (3,)), 4: inode(2, 0, 1, ())}, (5,))
-        self.writes(("remove", ("b",)), {0: inode(2, 1, 1, (2,)), 2: entry_blocks([("d", 4)])[0]}, (1, 3))
+        self.writes(("remove", ("b",)), {0: inode(2, 1, 1, (2,)), 2: leading_to(("d", 4))}, (1, 3))
 
     def test_remove(self):
         self.do(*[("make", (name,)) for name in "abcd"], ("folder", ("e",)))
@@ -177,7 +177,7 @@ class TestLinks(Groups):
 class TestRenames(Groups):
     def test_within_a_folder(self):
         self.do(("make", ("b",)), ("make", ("c",)))
-        self.writes(("rename", ("b",), ("d",)), {2: entry_blocks([("c", 3), ("d", 1)])[0]})
+        self.writes(("rename", ("b",), ("d",)), {2: leading_to(("c", 3), ("d", 1))})
         self.do(*[("make", (name,)) for name in "efgh"])
         first, second = entry_blocks([("a", 8), ("c", 3), ("d", 1), ("e", 4), ("f", 5), ("g", 7)])
         self.writes(("rename", ("h",), ("a",)), {2: first, 6: second})
@@ -187,13 +187,13 @@ class TestRenames(Groups):
         self.assertEqual(self.system.living(), (0, 1, 2, 3, 4, 5))
         # The block that the one folder gives up is the least key for the other one; it has the same content, too.
         self.assertEqual(self.group(("rename", ("d", "a"), ("e", "a"))), ({1: inode(2, 0, 1, ()), 5: inode(2, 1, 1, (4,))}, ()))
-        self.writes(("rename", ("e", "a"), ("d", "b")), {1: inode(2, 1, 1, (4,)), 4: entry_blocks([("b", 3)])[0],
+        self.writes(("rename", ("e", "a"), ("d", "b")), {1: inode(2, 1, 1, (4,)), 4: leading_to(("b", 3)),
                                                          5: inode(2, 0, 1, ())})
 
     def test_a_lesser_key_is_free(self):
         self.do(("make", ("x",)), ("folder", ("d",)), ("make", ("d", "a")), ("folder", ("e",)), ("remove", ("x",)))
         self.assertEqual(self.system.living(), (0, 2, 3, 4, 5, 6))
-        self.writes(("rename", ("d", "a"), ("e", "a")), {1: entry_blocks([("a", 4)])[0], 3: inode(2, 0, 1, ()),
+        self.writes(("rename", ("d", "a"), ("e", "a")), {1: leading_to(("a", 4)), 3: inode(2, 0, 1, ()),
                                                          6: inode(2, 1, 1, (1,))}, (5,))
 
     def test_the_last_block_is_given_up(self):
@@ -201,36 +201,36 @@ class TestRenames(Groups):
         self.do(("folder", ("d",)), *[("make", ("d", name)) for name in "abcd"], ("folder", ("e",)))
         self.assertEqual(self.system.living(), tuple(range(10)))
         self.writes(("rename", ("d", "a"), ("e", "a")), {
-            1: inode(2, 3, 1, (4,)), 4: entry_blocks([("b", 5), ("c", 6), ("d", 7)])[0], 8: entry_blocks([("a", 3)])[0],
+            1: inode(2, 3, 1, (4,)), 4: leading_to(("b", 5), ("c", 6), ("d", 7)), 8: leading_to(("a", 3)),
             9: inode(2, 1, 1, (8,))})
 
     def test_over_a_file(self):
         self.do(*file_of(("a",), 3), *file_of(("b",), 30))
-        self.writes(("rename", ("a",), ("b",)), {0: inode(2, 1, 1, (2,)), 2: entry_blocks([("b", 1)])[0]}, (4, 5, 6))
+        self.writes(("rename", ("a",), ("b",)), {0: inode(2, 1, 1, (2,)), 2: leading_to(("b", 1))}, (4, 5, 6))
         self.do(("folder", ("d",)), *file_of(("d", "c"), 1))
         self.assertEqual(self.system.living(), (0, 1, 2, 3, 4, 5, 6, 7))
-        self.writes(("rename", ("d", "c"), ("b",)), {2: entry_blocks([("b", 5), ("d", 4)])[0], 4: inode(2, 0, 1, ())}, (1, 3, 6))
+        self.writes(("rename", ("d", "c"), ("b",)), {2: leading_to(("b", 5), ("d", 4)), 4: inode(2, 0, 1, ())}, (1, 3, 6))
 
     def test_over_one_of_several_entries(self):
         self.do(*file_of(("a",), 3), *file_of(("b",), 3), ("link", ("b",), ("c",)))
-        self.writes(("rename", ("a",), ("b",)), {0: inode(2, 2, 1, (2,)), 2: entry_blocks([("b", 1), ("c", 4)])[0],
+        self.writes(("rename", ("a",), ("b",)), {0: inode(2, 2, 1, (2,)), 2: leading_to(("b", 1), ("c", 4)),
                                                  4: inode(1, 3, 1, (5,))})
 
     def test_over_a_file_that_a_handle_holds(self):
         self.do(*file_of(("a",), 3), *file_of(("b",), 3), ("open", ("b",)))
-        self.writes(("rename", ("a",), ("b",)), {0: inode(2, 1, 1, (2,)), 2: entry_blocks([("b", 1)])[0], 4: inode(1, 3, 0, (5,))})
+        self.writes(("rename", ("a",), ("b",)), {0: inode(2, 1, 1, (2,)), 2: leading_to(("b", 1)), 4: inode(1, 3, 0, (5,))})
         self.assertEqual(self.group(("close", 0)), ({}, (4, 5)))
 
     def test_over_an_empty_folder(self):
         self.do(("folder", ("d",)), ("make", ("d", "x")), ("folder", ("e",)), ("folder", ("e", "f")))
         self.assertEqual(self.system.living(), tuple(range(8)))
-        self.writes(("rename", ("d",), ("e", "f")), {0: inode(2, 1, 1, (2,)), 2: entry_blocks([("e", 5)])[0],
-                                                     7: entry_blocks([("f", 1)])[0]}, (6,))
+        self.writes(("rename", ("d",), ("e", "f")), {0: inode(2, 1, 1, (2,)), 2: leading_to(("e", 5)),
+                                                     7: leading_to(("f", 1))}, (6,))
 
     def test_a_folder_keeps_its_blocks(self):
         self.do(("folder", ("d",)), ("make", ("d", "x")), ("folder", ("e",)))
-        self.writes(("rename", ("d",), ("e", "d")), {0: inode(2, 1, 1, (2,)), 2: entry_blocks([("e", 5)])[0],
-                                                     5: inode(2, 1, 1, (6,)), 6: entry_blocks([("d", 1)])[0]})
+        self.writes(("rename", ("d",), ("e", "d")), {0: inode(2, 1, 1, (2,)), 2: leading_to(("e", 5)),
+                                                     5: inode(2, 1, 1, (6,)), 6: leading_to(("d", 1))})
 
 
 class TestNoGroup(Groups):
@@ -282,13 +282,13 @@ class TestWithoutFreeKeys(Groups):
         self.do(("folder", ("d",)), ("make", ("d", "x")), ("folder", ("e",)), *file_of(("f",), 336), ("make", ("g",)))
         self.do(("write", ("g",), 0, (1,)))
         self.assertEqual((len(self.system.living()), self.system.needs()), (22, 22))
-        given = [key for key, content in meaning(self.disk) if content == entry_blocks([("x", 3)])[0]]
+        given = [key for key, content in meaning(self.disk) if content == leading_to(("x", 3))]
         self.assertEqual(self.system.do(("make", ("h",))), ("refused", "room"))
         self.disk.told()
         self.assertEqual(self.group(("rename", ("d", "x"), ("e", "x"))),
                          ({1: inode(2, 0, 1, ()), 5: inode(2, 1, 1, tuple(given))}, ()))
         self.assertEqual(self.system.living(), tuple(range(22)))
-        self.writes(("rename", ("e", "x"), ("d", "y")), {1: inode(2, 1, 1, tuple(given)), given[0]: entry_blocks([("y", 3)])[0],
+        self.writes(("rename", ("e", "x"), ("d", "y")), {1: inode(2, 1, 1, tuple(given)), given[0]: leading_to(("y", 3)),
                                                          5: inode(2, 0, 1, ())})
 
 

@@ -123,10 +123,10 @@ class TestWrongTexts(unittest.TestCase):
                 self.wrong(thing, 1)
 
     def test_the_first_line(self):
-        for line in ("", "\n", "disk", "disk ", "disk 6", "disk 6 ", "disk 6 4 ", " disk 6 4", "disk  6 4", "disk 6  4", "disk 6 4 0",
-                     "Disk 6 4", "disc 6 4", "disk\t6 4", "disk,6,4", "6 4", "disk 5 4", "disk 41 4", "disk 6 3", "disk 6 25",
-                     "disk 0 0", "disk 4 6", "disk -6 4", "disk +6 4", "disk 06 4", "disk 6 04", "disk 6.0 4", "disk 6 4.", "disk six 4",
-                     "disk 6_0 4", "disk 1_0 4", "disk 10 1_0", "disk 6 4\r", "disk 6 4\t", "disk 6 4\x0b", "disk 6 4\u2028",
+        for line in ("", "\n", "disk", "disk ", "disk 6", "disk 6 ", "disk 6 4 ", " disk 6 4", "disk  6 4", "disk 6  4",
+                     "disk 6 4 0", "Disk 6 4", "disc 6 4", "disk\t6 4", "disk,6,4", "6 4", "disk 5 4", "disk 41 4", "disk 6 3", "disk 6 25",
+                     "disk 0 0", "disk 4 6", "disk -6 4", "disk +6 4", "disk 06 4", "disk 6 04", "disk 6.0 4", "disk 6 4.",
+                     "disk six 4", "disk 6_0 4", "disk 1_0 4", "disk 10 1_0", "disk 6 4\r", "disk 6 4\t", "disk 6 4\x0b", "disk 6 4\u2028",
                      "disk \u0666 4", "disk 6 \u0664", "disk \uff16 4", "disk 6 \u00b2", "disk 6 4\x00", "disk 6 4" + "0" * 5000,
                      "disk 1000000000 4", "disk 10000000000 4", "disk 0x6 4", "disk 6 4\x85", "disk 6\u00a04", "disk 6 4\x1c",
                      "disk True 4", "disk 6 -0", "disk 6e0 4", "#disk 6 4", "\ufeffdisk 6 4", "3 " + ONE):
@@ -138,7 +138,8 @@ class TestWrongTexts(unittest.TestCase):
         """The least disk has 26 places, up to 25."""
         self.assertEqual(read_disk("disk 6 4\n25 " + ONE).read(25)[:2], (1, 0))
         self.assertEqual(read_disk("disk 6 4\n0 " + ONE).read(0)[:2], (1, 0))
-        for place in ("26", "27", "1000000000", "10000000000", "1" * 5000, "-1", "-0", "+3", "03", "00", "3.0", "", "x", "1_0", "\u0663"):
+        for place in ("26", "27", "1000000000", "10000000000", "1" * 5000, "-1", "-0", "+3", "03", "00", "3.0", "", "x", "1_0",
+                      "\u0663"):
             self.wrong(f"disk 6 4\n{place} {ONE}", 2)
             self.wrong(f"disk 6 4\n2 {ONE}\n{place} {ONE}", 3)
             self.wrong(f"disk 6 4\n2 {ONE}\n{place} {ONE}\n3 {ONE}\n1 {ONE}", 3)
@@ -155,8 +156,8 @@ class TestWrongTexts(unittest.TestCase):
 
     def test_words(self):
         for at in range(32):
-            for word in ("1000000001", "-1", "+1", "01", "00", "", "1.0", "x", "1" * 5000, "1_0", "\u0661", "\u00b9", "True", "1e3", "0x1",
-                         "\uff11", "1\t", "\t1", "1\r", "1,"):
+            for word in ("1000000001", "-1", "+1", "01", "00", "", "1.0", "x", "1" * 5000, "1_0", "\u0661", "\u00b9", "True",
+                         "1e3", "0x1", "\uff11", "1\t", "\t1", "1\r", "1,"):
                 words = ["1"] * at + [word] + ["1"] * (31 - at)
                 self.wrong("disk 6 4\n3 " + " ".join(words), 2)
             words = ["0"] * at + ["1000000000"] + ["0"] * (31 - at)

@@ -41,7 +41,8 @@ class TestDays(unittest.TestCase):
                 ((MAKE_A, ("force",)), (), ((DONE, DONE), WITH_A, 2)),
                 ((MAKE_A, ("root",), ("remove", ("a",))), (), ((DONE,) * 3, WITH_A, 2)),
                 ((MAKE_A, ("root",), ("remove", ("a",))), (32,) * 40, ((DONE,) * 3, EMPTY, 2)),
-                ((MAKE_A, MAKE_A, ("force",), ("list", ())), (), ((DONE, ("refused", "there"), DONE, ("done", ("a",))), WITH_A, 3))):
+                ((MAKE_A, MAKE_A, ("force",), ("list", ())), (),
+                 ((DONE, ("refused", "there"), DONE, ("done", ("a",))), WITH_A, 3))):
             disk = formatted(6, 12)
             self.assertEqual(lived(disk, ((deeds, None, keep),)), (expected,))
             self.assertEqual(disk.waiting(), ())
@@ -84,9 +85,9 @@ class TestDays(unittest.TestCase):
 
     def test_days_go_on_from_one_another(self):
         disk = formatted(6, 12)
-        records = lived(disk, (((MAKE_A, ("write", ("a",), 0, (5,)), ("force",), ("open", ("a",)), ("remove", ("a",)), ("force",)), None, ()),
-                               ((("hread", 0, 0, 9), ("list", ()), MAKE_A, ("read", ("a",), 0, 9)), None, ()),
-                               ((("list", ()), ("root",)), None, ())))
+        first = (MAKE_A, ("write", ("a",), 0, (5,)), ("force",), ("open", ("a",)), ("remove", ("a",)), ("force",))
+        second = (("hread", 0, 0, 9), ("list", ()), MAKE_A, ("read", ("a",), 0, 9))
+        records = lived(disk, ((first, None, ()), (second, None, ()), ((("list", ()), ("root",)), None, ())))
         self.assertEqual([record[0][:2] for record in records],
                          [(DONE, ("done", 1)), (("refused", "no handle"), ("done", ())), (("done", ()), DONE)])
         self.assertEqual([record[1] for record in records], [EMPTY] * 3)
@@ -192,7 +193,8 @@ class TestKinds(unittest.TestCase):
     right = ((MAKE_A, ("hwrite", 0, 0, (5,))), 3, (0, 32, 1))
 
     def test_right(self):
-        for thing in ((), (((), None, ()),), (((), 0, ()),), (self.right,), (self.right,) * 9, ((tuple(DEEDS), 10 ** 39, (32,) * 99),)):
+        for thing in ((), (((), None, ()),), (((), 0, ()),), (self.right,), (self.right,) * 9,
+                      ((tuple(DEEDS), 10 ** 39, (32,) * 99),)):
             self.assertIs(is_life(thing), True)
             self.assertIs(is_life(thing=thing), True)
 

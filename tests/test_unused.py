@@ -3,7 +3,7 @@
 import unittest
 
 from broken import RIGHT, changed, disk_bearing
-from keyed import entry_blocks, inode
+from keyed import inode, leading_to
 from paired import Pair, pair
 from support import content, file_of
 from trailkeep.examiner import examine
@@ -119,7 +119,7 @@ class TestUnused(unittest.TestCase):
         self.assertEqual(both.system.needs(), 22)
 
     def test_whatever_is_beside_the_tree(self):
-        both = Pair(self, disk_bearing(changed(RIGHT, k6=content(5), k10=entry_blocks([("a", 3)])[0], k21=inode(2, 0, 1, ()))))
+        both = Pair(self, disk_bearing(changed(RIGHT, k6=content(5), k10=leading_to(("a", 3)), k21=inode(2, 0, 1, ()))))
         self.assertEqual(both.model.left, (6, 10, 21))
         both.do(("make", ("q",)))
         self.assertIn(6, both.system.living())

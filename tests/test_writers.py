@@ -181,7 +181,8 @@ class TestHandles(unittest.TestCase):
 
     def test_one_removes_what_others_hold(self):
         scripts = ((MAKE_A, OPEN_A, ("hwrite", 0, 0, (1,) * 30), ("hstat", 0), ("hread", 0, 28, 9), ("close", 0)),
-                   (OPEN_A, ("remove", ("a",)), ("hwrite", 0, 30, (2,)), ("close", 0)), (("stat", ("a",)), MAKE_A, ("stat", ("a",))))
+                   (OPEN_A, ("remove", ("a",)), ("hwrite", 0, 30, (2,)), ("close", 0)),
+                   (("stat", ("a",)), MAKE_A, ("stat", ("a",))))
         told, system = self.answers(scripts, (0, 0, 0, 2, 1, 1, -1, 0, 2, 2, 1, -2, 0, 1, 0))
         self.assertEqual(told[0][3:], (("done", ("file", 30, 0)), ("done", (1, 1, 2)), DONE))
         self.assertEqual(told[2], (("done", ("file", 30, 1)), DONE, ("done", ("file", 0, 1))))
@@ -253,7 +254,8 @@ class TestKinds(unittest.TestCase):
             self.assertIs(is_weaving(thing), False, thing)
 
     def wrong_weavings(self):
-        wrong = [(4,), (-41,), (0, 10 ** 9), (True,), (0, False), (None,), ("0",), ((0,),), ([0],), [0], [], {}, {0: 1}, None, 0, ""]
+        wrong = [(4,), (-41,), (0, 10 ** 9), (True,), (0, False), (None,), ("0",), ((0,),), ([0],), [0], [], {}, {0: 1}, None,
+                 0, ""]
         return wrong + [thing for thing in bent((0, 1, -2)) + list(STRANGE) if thing not in ((), (0,) * 3000)]
 
     def test_errors_in_their_order(self):

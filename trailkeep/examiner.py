@@ -74,6 +74,4 @@ def _is_same(thing, sure):
         if not isinstance(thing, tuple) or len(thing) != len(sure):
             return False
         return all([_is_same(part, other) for part, other in zip(thing, sure)])
-    if isinstance(sure, str):
-        return isinstance(thing, str) and thing == sure
-    return is_integer(thing) and thing == sure
+    return thing == sure and is_integer(thing) == is_integer(sure)
